@@ -1,0 +1,1 @@
+"""Armedexits: performed stretches whose way back lies in a cell or on a stack."""
