@@ -153,7 +153,7 @@ class Performance:
 
     def __init__(self, procedures, answers, steps):
         self.journal = Journal()
-        self._starts = [_start_of(procedure.stretch) for procedure in procedures]
+        self._stretches = [procedure.stretch for procedure in procedures]
         self._deeds = [{point: deed for point, deed in procedure} for procedure in procedures]
         self._answers = tuple(answers)
         self._given = 0
@@ -169,7 +169,7 @@ class Performance:
                 return
             if deed[0] == "call":
                 _, called, following = deed
-                journal.points.append(self._starts[called])
+                journal.points.append((self._stretches[called].first, 0))
                 with Call(journal, called):
                     self.perform(called)
                 if journal.ending is None:
@@ -196,10 +196,6 @@ class Performance:
                 self._given += 1
             case _:
                 self.journal.points.append(deed[-1])
-
-
-def _start_of(stretch):
-    return (0, 0) if stretch is None else (stretch.first, 0)
 
 
 def run_procedures(procedures, answers, *, steps):

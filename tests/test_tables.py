@@ -88,7 +88,7 @@ class Examples(Table):
         self.assertIs(comparison.alike, False)
 
     def test_a_program_without_statements(self):
-        e = (((), ()))
+        e = ((), ())
         comparison = self.check_table(
             Program(paragraphs_named("a", "b")), Lost(),
             [(None, e, 0)], [(0, (0, 0), e, 0), (0, (1, 0), e, 1)],
@@ -135,6 +135,17 @@ class Examples(Table):
                 program, rule,
                 [(None, start, 0), ((0, 1), one, 1)], [(0, (0, 0), start, 0), (1, (1, 0), one, 0)],
             )
+
+    def test_a_perform_that_is_refused_is_a_row_and_begins_no_level(self):
+        program = Program([("a", [("perform", "b", "b")]), ("b", [("perform", "b", "c")]), ("c", [("go", "b")])])
+        start, one = ((), (), ()), ((), ((0, 1),), ())
+        two = ((), ((0, 1),), ((1, 1),))
+        self.check_table(
+            program, Refused(),
+            [(None, start, 0), ((0, 1), one, 1), ((1, 1), two, 2)],
+            [(0, (0, 0), start, 0), (1, (1, 0), one, 0), (2, (1, 0), two, 0)],
+            {"refused": ((), 2)},
+        )
 
     def test_a_call_that_comes_back_in_two_ways(self):
         # The stretch c may perform b again, and then the way that the cell of b held before is lost.
